@@ -1,0 +1,1 @@
+"""Laterline: houses that follow a log, lines of time, takeovers and rejoinings."""
