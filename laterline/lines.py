@@ -39,15 +39,20 @@ def require_place(thing):
         raise NoPlace(thing)
 
 
-def line_of(history, place):
-    """The line of the row of that place, and of place 0 the first line."""
-    require_history(history)
-    require_place(place)
+def line_at(history, place):
+    """The line of the row of that place, of what is known to be a history; the place may lie behind the last one."""
     found = history[0][0]
     for line, fork in history:
         if fork < place:
             found = line
     return found
+
+
+def line_of(history, place):
+    """The line of the row of that place, and of place 0 the first line."""
+    require_history(history)
+    require_place(place)
+    return line_at(history, place)
 
 
 def extended(history, line, fork):

@@ -45,6 +45,28 @@ def not_numbers():
     return [thing for thing in odd_things() if type(thing) is not int] + ["0", "1", (), (0,), [0], b"\x00"]
 
 
+def long_history(many):
+    """So many lines, all begun at place 0."""
+    return tuple((number, 0) for number in range(many))
+
+
+def wrong_histories():
+    """Things that are no histories."""
+    return odd_things() + [
+        (), [], [(0, 0)], ([0, 0],), ((0, 0), [1, 0]), (0, 0), ((0,),), ((0, 0, 0),), long_history(61),
+        long_history(100), ((0, 1),), ((3, 10 ** 6),), ((0, 0), (0, 0)), ((0, 0), (0, 5)), ((5, 0), (4, 0)),
+        ((0, 0), (7, 1), (7, 2)), ((0, 0), (7, 1), (6, 2)), ((0, 0), (1, 5), (2, 4)), ((0, 0), (1, 1), (2, 0)),
+        ((-1, 0),), ((10 ** 9 + 1, 0),), ((0, 0), (10 ** 9 + 1, 0)), ((0, 0), (1, 10 ** 6 + 1)), ((0, -1),),
+        ((0, -1), (1, 0)), ((0, 0), (1, -1)), ((False, 0),), ((0, False),), ((0, 0), (True, 0)),
+        ((0, 0), (1, True)), ((True, False),), (("0", "0"),), "ab", ("ab",), {(0, 0): 0},
+    ]
+
+
+def wrong_places():
+    """Things that are no places."""
+    return not_numbers() + [-1, 10 ** 6 + 1, 10 ** 59, -10 ** 59]
+
+
 class Case(unittest.TestCase):
     """A test case that can ask for a refusal of just one class with just these fields."""
 

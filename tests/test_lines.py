@@ -4,28 +4,9 @@ import unittest
 
 from laterline.errors import Full, NoCount, NoHistory, NoPlace
 from laterline.lines import LINES, ROOT, extended, further, is_history, line_of, standing
-from tests.helpers import Case, not_numbers, odd_things
+from tests.helpers import Case, long_history, not_numbers, wrong_histories, wrong_places
 
 FORKS = ((2, 0), (5, 3), (6, 3), (9, 7))
-
-
-def long_history(many):
-    return tuple((number, 0) for number in range(many))
-
-
-def wrong_histories():
-    return odd_things() + [
-        (), [], [(0, 0)], ([0, 0],), ((0, 0), [1, 0]), (0, 0), ((0,),), ((0, 0, 0),), long_history(61),
-        long_history(100), ((0, 1),), ((3, 10 ** 6),), ((0, 0), (0, 0)), ((0, 0), (0, 5)), ((5, 0), (4, 0)),
-        ((0, 0), (7, 1), (7, 2)), ((0, 0), (7, 1), (6, 2)), ((0, 0), (1, 5), (2, 4)), ((0, 0), (1, 1), (2, 0)),
-        ((-1, 0),), ((10 ** 9 + 1, 0),), ((0, 0), (10 ** 9 + 1, 0)), ((0, 0), (1, 10 ** 6 + 1)), ((0, -1),),
-        ((0, -1), (1, 0)), ((0, 0), (1, -1)), ((False, 0),), ((0, False),), ((0, 0), (True, 0)),
-        ((0, 0), (1, True)), ((True, False),), (("0", "0"),), "ab", ("ab",), {(0, 0): 0},
-    ]
-
-
-def wrong_places():
-    return not_numbers() + [-1, 10 ** 6 + 1, 10 ** 59, -10 ** 59]
 
 
 class HistoriesTest(Case):
