@@ -67,6 +67,22 @@ def wrong_places():
     return not_numbers() + [-1, 10 ** 6 + 1, 10 ** 59, -10 ** 59]
 
 
+def wrong_sayings():
+    """Things that are no sayings: each part of a right one otherwise, and other kinds."""
+    wrong = odd_things() + [
+        (), (1,), (1, 2), (1, 2, 3), (1, 2, 3, 3, 3), [1, 2, 3, 3], ((1, 2, 3, 3),), [(1, 2, 3, 3)], "1233",
+        (-1, 2, 3, 3), (8, 2, 3, 3), (1, -1, 3, 3), (1, 10 ** 9 + 1, 3, 3), (1, 2, -1, 0), (1, 2, -1, -1),
+        (1, 2, 10 ** 6 + 1, 3), (1, 2, 10 ** 6 + 1, 10 ** 6 + 1), (1, 2, 3, 4), (1, 2, 0, 1), (1, 2, 3, -1),
+        (1, 2, 10 ** 6, 10 ** 6 + 1), (10 ** 59, 2, 3, 3), (1, 10 ** 59, 3, 3), (1, 2, 10 ** 59, 3),
+        (1, 2, 3, 10 ** 59),
+        (True, 2, 3, 3), (1, True, 3, 3), (1, 2, True, 0), (1, 2, 3, True), (False, 2, 3, 3), (1, 2, 3, False),
+        (Loud(), Loud(), Loud(), Loud()), (Yes(), Yes(), Yes(), Yes()), {1: 2}, range(4),
+    ]
+    for thing in not_numbers():
+        wrong += [(thing, 2, 3, 3), (1, thing, 3, 3), (1, 2, thing, 3), (1, 2, 3, thing)]
+    return wrong
+
+
 class Case(unittest.TestCase):
     """A test case that can ask for a refusal of just one class with just these fields."""
 
