@@ -1,5 +1,7 @@
 """What a number is here: the checks that all modules share."""
 
+from laterline.errors import NoCount
+
 LAST_PLACE = 10 ** 6
 
 
@@ -11,6 +13,12 @@ def is_number(thing):
 def is_within(thing, least, most):
     """Whether it is a number from the least to the most one."""
     return is_number(thing) and least <= thing <= most
+
+
+def require_within(thing, least, most, what):
+    """Refuse an argument, called by its name, that is no number from the least to the most one."""
+    if not is_within(thing, least, most):
+        raise NoCount(what)
 
 
 def is_count(thing):

@@ -13,8 +13,8 @@ def is_line(thing):
     return is_within(thing, 0, LAST_LINE)
 
 
-def is_begun_line(thing):
-    """Whether it is a pair of a line and its fork."""
+def is_line_and_place(thing):
+    """Whether it is a pair of a line and a place."""
     return isinstance(thing, tuple) and len(thing) == 2 and is_line(thing[0]) and is_place(thing[1])
 
 
@@ -22,7 +22,7 @@ def is_history(thing):
     """Whether it is a history."""
     if not isinstance(thing, tuple) or not 1 <= len(thing) <= LINES:
         return False
-    if not all([is_begun_line(pair) for pair in thing]) or thing[0][1] != 0:
+    if not all([is_line_and_place(pair) for pair in thing]) or thing[0][1] != 0:
         return False
     return all([ahead[0] < behind[0] and ahead[1] <= behind[1] for ahead, behind in zip(thing, thing[1:])])
 

@@ -72,14 +72,16 @@ class Log:
             self.past = history
         return self.end() - end
 
+    def written_rows(self, place):
+        """The rows behind that place, with their lines and places."""
+        behind = self.rows(place)
+        return tuple([(line_at(self.past, at), at, row) for at, row in enumerate(behind, start=place + 1)])
+
     def cut_back(self, place):
         """Give up all rows behind a place, and tell them with their lines and places."""
-        self.require_kept_from(place)
-        kept = place - self.cut_off
-        given_up = [(line_at(self.past, at), at, row)
-                    for at, row in enumerate(self.kept_rows[kept:], start=place + 1)]
-        del self.kept_rows[kept:]
-        return tuple(given_up)
+        given_up = self.written_rows(place)
+        del self.kept_rows[place - self.cut_off:]
+        return given_up
 
     def fork(self, line):
         """Begin a line at the end."""

@@ -1,7 +1,7 @@
 """Rules that say when a row is called done, and houses that were not asked."""
 
-from laterline.counts import is_within
-from laterline.errors import NoCount, NoHouse, NoRule
+from laterline.counts import is_within, require_within
+from laterline.errors import NoHouse, NoRule
 from laterline.rows import is_word
 
 WRITTEN = ("written",)
@@ -59,10 +59,8 @@ def require_asked(asked, houses):
 
 def avoiding(houses, asked, need):
     """The least so many houses that were not asked, or None where there are too few."""
-    if not is_within(houses, 1, HOUSES):
-        raise NoCount("houses")
-    if not is_within(need, 1, HOUSES):
-        raise NoCount("need")
+    require_within(houses, 1, HOUSES, "houses")
+    require_within(need, 1, HOUSES, "need")
     require_asked(asked, houses)
     others = [house for house in range(houses) if house not in asked]
     return tuple(others[:need]) if len(others) >= need else None

@@ -1,7 +1,7 @@
 """Slots: what followers need yet of a log, and what may be cut of it."""
 
-from laterline.counts import is_within
-from laterline.errors import NoCount, NoPlace
+from laterline.counts import is_within, require_within
+from laterline.errors import NoPlace
 from laterline.lines import require_place
 from laterline.rules import require_house
 
@@ -10,8 +10,7 @@ MOST_ROOM = 400
 
 def require_room(room):
     """Refuse what is no room for slots."""
-    if not is_within(room, 1, MOST_ROOM):
-        raise NoCount("room")
+    require_within(room, 1, MOST_ROOM, "room")
 
 
 def cut_of(room, slots, end, applied):

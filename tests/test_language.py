@@ -18,6 +18,10 @@ BUILTINS = set(
 DOUBLE = {"__init__", "__eq__", "__repr__", "__str__", "__len__", "__enter__", "__exit__"}
 BARRED = ("type typing typing_extensions enum Enum IntEnum StrEnum Flag IntFlag Generic Protocol ABC ABCMeta "
           "namedtuple NamedTuple TypedDict TYPE_CHECKING abstractmethod").split()
+BUILTIN_METHODS = set(
+    "append clear copy count endswith extend find get index insert isalnum isalpha isdigit islower isspace isupper items "
+    "join keys ljust lower lstrip partition pop remove replace reverse rfind rjust rpartition rsplit rstrip setdefault "
+    "split splitlines startswith strip update upper values zfill bit_length removeprefix removesuffix __init__".split())
 UNUSED = (ast.AsyncFunctionDef, ast.Await, ast.Global, ast.NamedExpr, ast.Div, ast.Import)
 
 
@@ -85,6 +89,24 @@ class LanguageTest(unittest.TestCase):
                 self.assertFalse(hasattr(builtins, word), (name, word))
             used = {node.id for node in ast.walk(tree) if isinstance(node, ast.Name)}
             self.assertLessEqual(used - bound, BUILTINS | {"super"}, name)
+
+    def test_no_name_of_an_import_or_a_class_has_another_meaning(self):
+        for name, tree in TREES.items():
+            taken = {imported.name for node in tree.body if isinstance(node, ast.ImportFrom) for imported in node.names}
+            taken |= {node.name for node in tree.body if isinstance(node, ast.ClassDef)}
+            inner = {node.arg for node in ast.walk(tree) if isinstance(node, ast.arg)}
+            inner |= {node.id for node in ast.walk(tree) if isinstance(node, ast.Name) and isinstance(node.ctx, ast.Store)}
+            self.assertEqual(taken & inner, set(), name)
+
+    def test_attributes_that_are_read_are_assigned_or_methods(self):
+        methods = {inner.name for _, node in nodes(ast.ClassDef) for inner in node.body
+                   if isinstance(inner, ast.FunctionDef)}
+        assigned = {node.attr for _, node in nodes(ast.Attribute) if isinstance(node.ctx, ast.Store)}
+        called = {id(node.func) for _, node in nodes(ast.Call)}
+        for name, node in nodes(ast.Attribute):
+            if isinstance(node.ctx, ast.Load):
+                known = assigned if id(node) not in called else methods | BUILTIN_METHODS
+                self.assertIn(node.attr, known, (name, node.lineno))
 
     def test_no_name_is_a_method_and_an_attribute(self):
         methods = {inner.name for _, node in nodes(ast.ClassDef) for inner in node.body
