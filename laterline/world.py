@@ -184,7 +184,8 @@ class World:
         paper = takeover_paper(taker, line, every)
         for one in every:
             one.promise = line
-            one.yield_to(taker.number)
+            if one.number != taker.number:
+                one.yield_to(taker.number)
         taker.begin_line(line)
         parent = taker.own_log.history()[-2][0]
         self.begun_lines.append((line, taker.number, parent, taker.own_log.end(), not within))

@@ -48,6 +48,12 @@ class ErrorsTest(unittest.TestCase):
             self.assertIs(errors.NoHouse(thing).house, thing)
             self.assertIs(errors.NoLetter(thing).number, thing)
 
+    def test_words_begin_with_the_name(self):
+        for name, fields in FIELDS.items():
+            made = getattr(errors, name)(*fields)
+            self.assertEqual(errors.name_in(str(made)), name)
+            self.assertGreater(len(str(made)), len(name) + 2)
+
     def test_they_can_be_caught_as_line_errors(self):
         for name, fields in FIELDS.items():
             with self.subTest(name), self.assertRaises(errors.LineError):

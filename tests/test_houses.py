@@ -3,12 +3,12 @@
 import unittest
 
 from laterline.books import Book
-from laterline.houses import first_houses, may_begin, next_line
+from laterline.houses import House, first_houses, may_begin, next_line
 from laterline.lines import ROOT
 from laterline.logs import Log
 from laterline.slots import Slots
 from laterline.states import State
-from tests.helpers import Case
+from tests.helpers import Case, odd_things
 
 
 class BeginningTest(Case):
@@ -48,6 +48,25 @@ class BeginningTest(Case):
         self.assertEqual(other.state, State())
         self.assertEqual(other.own_slots, Slots(40))
         self.assertEqual(other.book, Book())
+
+
+class EqualTest(Case):
+
+    def test_houses_of_two_beginnings(self):
+        for many in (1, 3, 8):
+            self.assertTrue(first_houses(many, 40) == first_houses(many, 40))
+
+    def test_unlike(self):
+        one, other = first_houses(3, 40)[1:]
+        self.assertFalse(one == other)
+        self.assertFalse(one == first_houses(3, 41)[1])
+        other.number = one.number
+        self.assertTrue(one == other)
+
+    def test_other_things(self):
+        house = first_houses(1, 40)[0]
+        for thing in odd_things() + [0, house.own_log, house.state]:
+            self.assertIs(House.__eq__(house, thing), False)
 
 
 class LinesTest(Case):

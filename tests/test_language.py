@@ -19,9 +19,10 @@ DOUBLE = {"__init__", "__eq__", "__repr__", "__str__", "__len__", "__enter__", "
 BARRED = ("type typing typing_extensions enum Enum IntEnum StrEnum Flag IntFlag Generic Protocol ABC ABCMeta "
           "namedtuple NamedTuple TypedDict TYPE_CHECKING abstractmethod").split()
 BUILTIN_METHODS = set(
-    "append clear copy count endswith extend find get index insert isalnum isalpha isdigit islower isspace isupper items "
-    "join keys ljust lower lstrip partition pop remove replace reverse rfind rjust rpartition rsplit rstrip setdefault "
-    "split splitlines startswith strip update upper values zfill bit_length removeprefix removesuffix __init__".split())
+    "append clear copy count endswith extend find get index insert isalnum isalpha isdigit islower isspace isupper "
+    "items join keys ljust lower lstrip partition pop remove replace reverse rfind rjust rpartition rsplit rstrip "
+    "setdefault split splitlines startswith strip update upper values zfill bit_length removeprefix "
+    "removesuffix __init__".split())
 UNUSED = (ast.AsyncFunctionDef, ast.Await, ast.Global, ast.NamedExpr, ast.Div, ast.Import)
 
 
@@ -95,7 +96,8 @@ class LanguageTest(unittest.TestCase):
             taken = {imported.name for node in tree.body if isinstance(node, ast.ImportFrom) for imported in node.names}
             taken |= {node.name for node in tree.body if isinstance(node, ast.ClassDef)}
             inner = {node.arg for node in ast.walk(tree) if isinstance(node, ast.arg)}
-            inner |= {node.id for node in ast.walk(tree) if isinstance(node, ast.Name) and isinstance(node.ctx, ast.Store)}
+            names = [node for node in ast.walk(tree) if isinstance(node, ast.Name)]
+            inner |= {node.id for node in names if isinstance(node.ctx, ast.Store)}
             self.assertEqual(taken & inner, set(), name)
 
     def test_attributes_that_are_read_are_assigned_or_methods(self):

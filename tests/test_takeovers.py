@@ -99,7 +99,8 @@ class TakeoverPaperTest(Case):
             self.right(with_part(PAPER, 3, (*STANDINGS[:2], standing)))
         for standing in ((3, 3, 0), (3, 0, 0), (3, -1, 1), (3, -2, 0), (3, -1, -1), (3, 2, 10 ** 6 + 1),
                          (3, 10 ** 9 + 1, 1), (3, True, 1), (3, 1, True), (True, 1, 1), (3, -1, False), (3, 1),
-                         (3, 1, 1, 1), (3,), 3, None, (Yes(), Yes(), Yes()), (3, None, 0), (3, "0", 1)):
+                         (3, 1, 1, 1), (3,), 3, None, (Yes(), Yes(), Yes()), (3, None, 0), (3, "0", 1), (3, Yes(), 0),
+                         (3, -1, Yes())):
             self.wrong(with_part(PAPER, 3, (*STANDINGS[:2], standing)))
 
     def test_none_stands_further(self):
@@ -170,7 +171,8 @@ class LinesTest(Case):
                       (4, 0, None, 0, False), (False, 0, None, 0, False), (0, False, None, 0, False),
                       (0, 0, None, False, False), (0, 0, None, 0, 0), (0, 0, None, 0, None), (0, 0, None, 0),
                       (0, 0, False, 0, False), (0, 0, None, 0, False, 0), [0, 0, None, 0, False], None, (),
-                      (Yes(), Yes(), None, Yes(), False), (Yes(), Yes(), Yes(), Yes(), Yes())):
+                      (Yes(), Yes(), None, Yes(), False), (Yes(), Yes(), Yes(), Yes(), Yes()), (0, 0, Yes(), 0, False),
+                      (0, 0, None, 0, Yes())):
             self.wrong([first])
             self.wrong([first] + LINES[1:])
         self.wrong(LINES[1:])

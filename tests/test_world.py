@@ -72,8 +72,8 @@ class BeginningTest(WorldCase):
             self.refused(NoCount, {"what": "room"}, World, 8, room=room)
 
     def test_methods_stand_in_the_class_itself(self):
-        for name in ("write follow ask give lose apply done takeover rejoin renew trim free forget read history log_rows "
-                     "table marks slots said lines trail lying letter many __len__ __eq__ __init__").split():
+        for name in ("write follow ask give lose apply done takeover rejoin renew trim free forget read history "
+                     "log_rows table marks slots said lines trail lying letter many __len__ __eq__ __init__").split():
             self.assertTrue(inspect.isfunction(vars(World)[name]), name)
 
     def test_rule_with_a_need_beyond_the_houses(self):
